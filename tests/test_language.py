@@ -33,7 +33,7 @@ NODES = (
 DUNDERS = {"__init__", "__eq__", "__repr__", "__str__", "__len__"}
 KEYWORDS = {"sorted": {"key", "reverse"}, "min": {"key", "default"}, "max": {"key", "default"}, "sum": {"start"},
             "enumerate": {"start"}, "zip": {"strict"}}
-WALKED = {"zip", "enumerate", "reversed", "range"}
+WALKED = {"zip", "enumerate", "reversed", "range", "items", "keys", "values"}
 WALKERS = {"list", "tuple", "dict", "sorted", "sum", "any", "all", "enumerate", "zip", "min", "max"}
 
 
@@ -54,6 +54,8 @@ def bound_names(function):
     for node in ast.walk(function):
         if isinstance(node, ast.Name) and isinstance(node.ctx, ast.Store):
             names.append(node.id)
+        if isinstance(node, ast.Lambda):
+            names.extend(arg.arg for arg in node.args.args)
     return names
 
 
@@ -199,7 +201,7 @@ class Language(unittest.TestCase):
             if isinstance(node, ast.Call) and name_of(node.func) in WALKERS and node.args:
                 good.add(id(node.args[0]))
         for node in ast.walk(tree):
-            if isinstance(node, ast.Call) and name_of(node.func) in WALKED:
+            if isinstance(node, ast.Call) and (name_of(node.func) or getattr(node.func, "attr", None)) in WALKED:
                 self.assertIn(id(node), good)
 
     @each_file
