@@ -2,7 +2,7 @@
 
 from hideworth.checks import are_weights, is_fraction, is_whole, is_within
 from hideworth.errors import NoBoxes, NoBudget
-from hideworth.ratios import below, common, minus, over, plus, ratio, shared_divisor, times
+from hideworth.ratios import below, common, lowest, minus, over, plus, ratio, shared_divisor, times
 
 MOST_BOXES = 6
 MOST_COST = 60
@@ -212,12 +212,11 @@ def mix_of(boxes, counts, worth):
         starts.append((starts[-1] + length) % ring)
     edges = sorted(set(starts))
     widths = [behind - ahead for ahead, behind in zip(edges, edges[1:] + [ring])]
-    shared = shared_divisor(widths)
     mix = []
-    for edge, width in zip(edges, widths):
+    for edge, weight in zip(edges, lowest(widths)):
         more = [(edge - start) % ring < length for start, length in zip(starts, lengths)]
         plan = [count + 1 if one else count for count, one in zip(counts, more)]
-        mix.append((plan, width // shared))
+        mix.append((plan, weight))
     return mix
 
 

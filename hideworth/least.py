@@ -63,12 +63,15 @@ def best_roads(steps, weights, standing):
     return (roads, standing)
 
 
-def best_plan(web, kind, weights):
-    look_weights(web, kind, weights)
-    steps = steps_by_standing(shortest_roads(web), kind)
+def plan_against(steps, kind, weights):
     roads, standing = best_roads(steps, weights, FIRST)
     # Places without a weight may not have been come to yet: with a weight at each the rest is 0 at the end alone.
     more, end = best_roads(steps, [1 for place in weights], standing)
     if kind == "spread":
         return roads + more
     return [0] + [b for a, b in roads + more]
+
+
+def best_plan(web, kind, weights):
+    look_weights(web, kind, weights)
+    return plan_against(steps_by_standing(shortest_roads(web), kind), kind, weights)

@@ -1,6 +1,6 @@
 """The finding of a table's worth: sums over whole numbers, unknown swapped for unknown."""
 
-from hideworth.ratios import plus, ratio, shared_divisor
+from hideworth.ratios import lowest, plus, ratio
 
 
 # The seeker's weights over the worth are unknowns whose sum is to be as great as it can, while no column of the
@@ -12,13 +12,33 @@ class Board:
         self.scale = 1
         self.idle = list(range(len(grid[0]) - 1))
         self.busy = [len(self.idle) + k for k in range(len(grid) - 1)]
+        self.stuck = False
 
-    # The least unknown that helps comes in, and of those that must go the least one goes: by this choice
-    # (Bland's) no state comes back, so the swapping ends.
+    # The unknown that helps most for its length comes in: so few swaps are needed. Behind a swap that gained nothing
+    # it is the least one that helps, and of those that must go the least one goes, till something is gained: by this
+    # choice (Bland's) no state comes back, so the swapping ends.
     def entering(self):
-        goal = self.grid[-1]
-        helping = [(name, k) for k, name in enumerate(self.idle) if goal[k] < 0]
-        return min(helping)[1] if helping else None
+        helping = [k for k in range(len(self.idle)) if self.grid[-1][k] < 0]
+        if not helping:
+            return None
+        if self.stuck:
+            return min(helping, key=lambda k: self.idle[k])
+        return self.steepest(helping)
+
+    def steepest(self, columns):
+        best = columns[0]
+        most = self.steepness(best)
+        for k in columns[1:]:
+            here = self.steepness(k)
+            if here[0] * most[1] > most[0] * here[1]:
+                best = k
+                most = here
+        return best
+
+    def steepness(self, column):
+        # Squares, top and bottom: what is gained, over how far all unknowns together go for it.
+        squares = [row[column] * row[column] for row in self.grid]
+        return (squares[-1], self.scale * self.scale + sum(squares[:-1]))
 
     def leaving(self, column):
         best = None
@@ -34,6 +54,7 @@ class Board:
 
     def swap(self, row, column):
         pivot = self.grid[row][column]
+        self.stuck = self.grid[row][-1] == 0
         self.grid = [self.swapped_row(k, row, column) for k in range(len(self.grid))]
         self.scale = pivot
         name = self.busy[row]
@@ -56,11 +77,6 @@ class Board:
 def first_grid(table, lift):
     grid = [[row[j] + lift for row in table] + [1] for j in range(len(table[0]))]
     return grid + [[-1 for row in table] + [0]]
-
-
-def lowest(weights):
-    shared = shared_divisor(weights)
-    return [weight // shared for weight in weights]
 
 
 def row_weights(board, many):

@@ -55,3 +55,9 @@ def shared_divisor(numbers):
     for number in numbers:
         shared = divisor(shared, number)
     return shared
+
+
+def lowest(weights):
+    # The same shares in the least whole numbers.
+    shared = shared_divisor(weights)
+    return [weight // shared for weight in weights]

@@ -1,6 +1,7 @@
 """Webs for the tests, and what the document says of them, worked out in other ways than the program does."""
 
 import itertools
+from fractions import Fraction
 
 PATH = (3, [(0, 1, 2), (1, 2, 5)])
 STAR = (3, [(0, 1, 1), (0, 2, 1)])
@@ -167,3 +168,73 @@ def plans_apart(web, kind):
 
 def table_apart(web, kind, weights):
     return {standing: least_apart(web, kind, weights, standing) for standing in standings_apart(web, kind)}
+
+
+def renamed(web, names):
+    return (web[0], [(names[a], names[b], length) for a, b, length in web[1]])
+
+
+def some_names(chance, many):
+    """New names for the places; place 0 keeps its own."""
+    return [0] + chance.sample(range(1, many), many - 1)
+
+
+def longer(web, times):
+    return (web[0], [(a, b, length * times) for a, b, length in web[1]])
+
+
+def ahead_of(web):
+    """For each place of a tree but 0 the place ahead of it on the way from 0, and the length of the road there."""
+    ahead = {0: None}
+    while len(ahead) < web[0]:
+        for a, b, length in web[1]:
+            for one, other in ((a, b), (b, a)):
+                if one in ahead and other not in ahead:
+                    ahead[other] = (one, length)
+    return {place: road for place, road in ahead.items() if place}
+
+
+def way_to(ahead, place):
+    """The places on the way from 0, with this one and without 0."""
+    return way_to(ahead, ahead[place][0]) + [place] if place else []
+
+
+def depths_apart(web):
+    ahead = ahead_of(web)
+    return [sum(ahead[one][1] for one in way_to(ahead, place)) for place in range(web[0])]
+
+
+def branches_apart(web):
+    """For each place its branches: pairs of the branch's length and of all places in it, by their first places."""
+    ahead = ahead_of(web)
+    branches = {place: [] for place in range(web[0])}
+    for first in sorted(ahead):
+        within = [place for place in ahead if first in way_to(ahead, place)]
+        branches[ahead[first][0]].append((sum(ahead[place][1] for place in within), within))
+    return branches
+
+
+def uneven_apart(web, weights):
+    if len(weights) != web[0] or set(weights) == {0}:
+        return -1
+    for place, branches in sorted(branches_apart(web).items()):
+        sums = [(length, sum(weights[one] for one in within)) for length, within in branches]
+        if weights[place] < 0 or (branches and weights[place]):
+            return place
+        if any(one[1] * other[0] != other[1] * one[0] for one in sums for other in sums):
+            return place
+    return None
+
+
+def even_shares(web):
+    """The even weights as fractions whose sum is 1."""
+    branches = branches_apart(web)
+    shares = {0: Fraction(1)}
+    fresh = [0]
+    for place in fresh:
+        whole = sum(length for length, within in branches[place])
+        for length, within in branches[place]:
+            first = min(within, key=lambda one: len(way_to(ahead_of(web), one)))
+            shares[first] = shares[place] * length / whole
+            fresh.append(first)
+    return [Fraction(0) if branches[place] else shares[place] for place in range(web[0])]

@@ -1,6 +1,8 @@
 """Ways to ask that check, beside each answer, what holds for all of them."""
 
 import copy
+import math
+from fractions import Fraction
 
 from hideworth import errors
 
@@ -75,3 +77,22 @@ def numbers_in(thing):
     if isinstance(thing, (list, tuple)):
         return [number for part in thing for number in numbers_in(part)]
     return [thing]
+
+
+def assert_fraction(test, thing):
+    """It is a fraction in lowest terms; told as one of Python's own."""
+    test.assertIs(type(thing), tuple)
+    test.assertEqual([type(number) for number in thing], [int, int])
+    test.assertGreaterEqual(thing[1], 1)
+    test.assertEqual(math.gcd(*thing), 1)
+    return Fraction(*thing)
+
+
+def assert_paper(test, paper):
+    """A list of tuples (list, weight), one or more, weights from 1 on."""
+    test.assertIs(type(paper), list)
+    test.assertGreater(len(paper), 0)
+    for share in paper:
+        test.assertEqual((type(share), len(share)), (tuple, 2))
+        test.assertEqual([type(part) for part in share], [list, int])
+        test.assertGreaterEqual(share[1], 1)
