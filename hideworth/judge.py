@@ -1,7 +1,7 @@
 """The judge of papers for a web's worth: plain sums, whoever wrote the papers."""
 
 from hideworth.checks import are_weights, is_whole
-from hideworth.errors import NoPlan
+from hideworth.errors import NoPaper, NoPlan
 from hideworth.steps import FIRST, rest_of, steps_by_standing
 from hideworth.webs import look_small, shortest_roads, whole_costs
 
@@ -21,6 +21,18 @@ def share_costs(web, lengths, kind, share):
         return None
 
 
+def paper_costs(web, lengths, kind, paper):
+    if not isinstance(paper, list) or len(paper) == 0:
+        raise NoPaper(0)
+    rows = []
+    for k, share in enumerate(paper):
+        costs = share_costs(web, lengths, kind, share)
+        if costs is None:
+            raise NoPaper(k)
+        rows.append(costs)
+    return rows
+
+
 def first_wrong_place(worth, weights, rows):
     for j in range(len(rows[0])):
         paid = sum([weight * costs[j] for weight, costs in zip(weights, rows)])
@@ -30,14 +42,10 @@ def first_wrong_place(worth, weights, rows):
 
 
 def seeker_judged(web, lengths, kind, worth, paper):
-    if not isinstance(paper, list) or len(paper) == 0:
-        return ("plan", 0)
-    rows = []
-    for k, share in enumerate(paper):
-        costs = share_costs(web, lengths, kind, share)
-        if costs is None:
-            return ("plan", k)
-        rows.append(costs)
+    try:
+        rows = paper_costs(web, lengths, kind, paper)
+    except NoPaper as refusal:
+        return ("plan", refusal.k)
     return first_wrong_place(worth, [weight for plan, weight in paper], rows)
 
 

@@ -1,7 +1,7 @@
 """Trees: the worth of a walked web is the sum of its lengths, told at once."""
 
 from hideworth.errors import NoTree
-from hideworth.ratios import common, lowest, ratio, times
+from hideworth.ratios import common, ratio, times
 from hideworth.webs import look_web
 
 
@@ -74,8 +74,9 @@ def even_weights(branches):
         whole = sum([lengths[end] for end in ends])
         for end in ends:
             shares[end] = times(shares[place], ratio(lengths[end], whole))
+    # The shares' sum is 1: so a divisor of all tops would divide the bottom, too, and it would not be the least.
     tops, bottom = common([(0, 1) if roads else share for roads, share in zip(branches, shares)])
-    return lowest(tops)
+    return tops
 
 
 def round_of(web):

@@ -157,6 +157,8 @@ class Language(unittest.TestCase):
         self.assertFalse(set(locals_of) & closed)
         self.assertFalse((set(own) - set(drawn)) & set(dir(builtins)))
         walked = {node.id for node in nodes(path, ast.Name) if isinstance(node.ctx, ast.Store)}
+        walked |= {node.name for node in nodes(path, ast.ExceptHandler) if node.name}
+        self.assertFalse(walked & closed)
         known = set(own) | set(locals_of) | walked | CALLS | ERRORS
         for node in nodes(path, ast.Name):
             self.assertIn(node.id, known)
